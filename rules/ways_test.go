@@ -71,6 +71,7 @@ func TestWays(t *testing.T) {
 	p := load(t)
 	for name, ways := range map[string]string{
 		"gauge": "array range-function label map method-value generic-function closure panic recover defer array-compared variadic",
+		"sherd": "array map method-expression panic recover defer range-function generic-function closure struct-compared",
 	} {
 		if _, err := p.Import("conjoin/" + name); err != nil {
 			t.Fatal(err)
@@ -122,8 +123,13 @@ func (p *typed) note(n ast.Node, called map[ast.Expr]bool, got map[string]bool) 
 	case *ast.SelectorExpr:
 		s := p.info.Selections[x]
 		is("method-value", s != nil && s.Kind() == types.MethodVal && !called[x])
+		is("method-expression", s != nil && s.Kind() == types.MethodExpr)
 	case *ast.BinaryExpr:
-		_, ok := p.info.Types[x.X].Type.Underlying().(*types.Array)
-		is("array-compared", ok && (x.Op == token.EQL || x.Op == token.NEQ))
+		if x.Op == token.EQL || x.Op == token.NEQ {
+			_, isArray := p.info.Types[x.X].Type.Underlying().(*types.Array)
+			_, isStruct := p.info.Types[x.X].Type.Underlying().(*types.Struct)
+			is("array-compared", isArray)
+			is("struct-compared", isStruct)
+		}
 	}
 }

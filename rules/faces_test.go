@@ -1,0 +1,146 @@
+package rules
+
+import (
+	"math"
+	"reflect"
+
+	"conjoin/api"
+	"conjoin/gauge"
+	"conjoin/sherd"
+)
+
+// faces are the packages that are built.
+func faces() []face { return []face{gaugeFace(), sherdFace()} }
+
+func gaugeFace() face {
+	return face{
+		name: "gauge",
+		calls: map[string]any{
+			"CheckSystem": gauge.CheckSystem, "Keeps": gauge.Keeps, "Breaks": gauge.Breaks, "With": gauge.With,
+			"Without": gauge.Without, "Only": gauge.Only, "Ids": gauge.Ids, "Beside": gauge.Beside, "Tie": gauge.Tie,
+			"Solve": gauge.Solve, "Circle": gauge.Circle, "CheckCircle": gauge.CheckCircle, "Greatest": gauge.Greatest,
+			"Least": gauge.Least, "Path": gauge.Path, "CheckPath": gauge.CheckPath, "Attain": gauge.Attain,
+			"Fixed": gauge.Fixed, "Rigid": gauge.Rigid, "Rests": gauge.Rests, "Doubt": gauge.Doubt, "Changed": gauge.Changed,
+		},
+		some:  someOfGauge,
+		first: func(args []reflect.Value) api.Errno { return gauge.CheckSystem(args[0].Interface().(api.System)) },
+	}
+}
+
+func system(points int, bounds ...api.Bound) api.System {
+	if len(bounds) > 0 {
+		bounds = roomy(bounds...)
+	}
+	return api.System{Points: points, Bounds: bounds}
+}
+
+func bound(from, to, most, by int) api.Bound {
+	return api.Bound{From: from, To: to, Most: most, By: by}
+}
+
+func someOfGauge(of reflect.Type) []any {
+	worst := bound(math.MinInt, math.MaxInt, math.MinInt, math.MaxInt)
+	three := []api.Bound{bound(0, 1, 5, 7), bound(1, 0, -2, 8), bound(1, 2, 4, 9), bound(2, 1, -4, 9)}
+	switch reflect.Zero(of).Interface().(type) {
+	case int:
+		return anyInts()
+	case bool:
+		return []any{false, true}
+	case []int:
+		return []any{[]int(nil), roomy(0, 2), roomy(0, 3, 7), roomy(7, 9, 0, 7), roomy(math.MinInt, math.MaxInt, -1)}
+	case api.Bound:
+		return []any{bound(0, 1, 3, 6), bound(1, 0, -6, 5), bound(1, 1, 0, 0), worst}
+	}
+	full := api.System{Points: api.MaxPoints}
+	for i := range api.MaxBounds {
+		from := i % api.MaxPoints
+		full.Bounds = append(full.Bounds, bound(from, (from+1+i/api.MaxPoints)%api.MaxPoints, 10, i+1))
+	}
+	return []any{
+		system(3, three...), system(3, append(three, bound(1, 0, -6, 5))...), full, system(1), system(2), system(60), system(61), system(0),
+		system(math.MinInt), system(math.MaxInt), system(2, worst), system(math.MaxInt, bound(-1, 1<<40, 0, 0)), system(2, make([]api.Bound, 401)...),
+	}
+}
+
+func sherdFace() face {
+	return face{
+		name: "sherd",
+		calls: map[string]any{
+			"CheckItem": sherd.CheckItem, "Check": sherd.Check, "Append": sherd.Append, "Counting": sherd.Counting,
+			"Sherds": sherd.Sherds, "SherdOf": sherd.SherdOf, "Wares": sherd.Wares, "LimitOf": sherd.LimitOf,
+			"Outline": sherd.Outline, "Ways": sherd.Ways, "Turns": sherd.Turns, "Way": sherd.Way, "Turn": sherd.Turn,
+			"Colour": sherd.Colour, "Curves": sherd.Curves, "Doubts": sherd.Doubts, "CheckDoubt": sherd.CheckDoubt,
+			"Rests": sherd.Rests, "ColourRests": sherd.ColourRests, "Changed": sherd.Changed, "Reached": sherd.Reached,
+			"Write": sherd.Write, "Read": sherd.Read,
+		},
+		some: someOfSherd,
+		first: func(args []reflect.Value) api.Errno {
+			l, ok := args[0].Interface().([]api.Item)
+			if !ok {
+				return api.OK
+			}
+			_, e := sherd.Check(l)
+			return e
+		},
+		kept: []string{"Check"},
+	}
+}
+
+// worstItem has fields that no kind allows.
+func worstItem(kind uint8) api.Item {
+	return api.Item{
+		Id: math.MinInt, Known: math.MinInt, Kind: kind, Ware: "\xff\x00", Pit: math.MaxInt, Layer: math.MinInt, Corners: math.MaxInt, Foot: true,
+		Sherd: math.MinInt, From: math.MinInt, To: math.MaxInt, Low: math.MinInt, High: math.MaxInt, Set: "\xff", Limit: math.MinInt, Of: math.MinInt,
+	}
+}
+
+func items(lines ...string) []api.Item {
+	list := roomy[api.Item]()
+	for _, line := range lines {
+		x, _ := sherd.Read(line)
+		list = append(list, x)
+	}
+	return roomy(list...)
+}
+
+func someOfSherd(of reflect.Type) []any {
+	worst := bound(math.MinInt, math.MaxInt, math.MinInt, math.MaxInt)
+	lines := []string{
+		"1 0 sherd bell 1 4 4 foot", "2 0 way 1 0 2 30 34", "3 1 way 1 1 2 10 12", "4 1 colour 1 300 500", "9 1 turn 1 0 2 -90 -80",
+		"5 2 colour 1 450 600", "6 2 curve 1 bcd", "59 59 sherd cord 1 1 16", "7 59 way 1 0 1 25 40", "8 59 limit bell 2", "10 60 void 59",
+	}
+	doubtful := []string{"60 60 turn 1 0 2 80 90", "61 60 colour 1 0 10", "62 60 curve 1 e"}
+	switch reflect.Zero(of).Interface().(type) {
+	case int:
+		return []any{0, 1, 2, 59, math.MaxInt, math.MinInt}
+	case bool:
+		return []any{false, true}
+	case uint8:
+		return []any{uint8(0), uint8(1), uint8(255)}
+	case string:
+		return []any{"", "bell", "1 0 sherd bell 1 4 4 foot", "1 0 turn 1 0 2 -9 9", "x", " ", "1 0 curve 1 \xff", "1 0 void 99999999999999999999", "1 0 nothing 1"}
+	case api.Item:
+		list := []any{api.Item{}}
+		for _, x := range items("11 60 void 7", "11 60 curve 1 cd", "11 60 sherd a 1 1 3", "11 60 way 59 0 16 1 1", "1 0 sherd bell 1 4 4", "11 59 limit bell 1", "11 60 void 10") {
+			list = append(list, x)
+		}
+		for _, kind := range []uint8{0, 1, 2, 3, 4, 5, 6, 7, 8, 255} {
+			list = append(list, worstItem(kind))
+		}
+		return list
+	case api.Doubt:
+		return []any{
+			api.Doubt{}, api.Doubt{Kind: api.DoubtWay, Ids: roomy(2, 3, 7)}, api.Doubt{Kind: api.DoubtWay, Ids: roomy(3, 2)}, api.Doubt{Kind: api.DoubtTurn, Ids: roomy(9, 60)},
+			api.Doubt{Kind: api.DoubtColour, Ids: roomy(4, 61)}, api.Doubt{Kind: api.DoubtCurve, Ids: roomy(6, 62)}, api.Doubt{Kind: 255, Ids: roomy(math.MinInt, math.MaxInt)},
+		}
+	case api.Outline:
+		return []any{
+			api.Outline{}, api.Outline{Corners: 3, Ways: roomy(bound(0, 1, 2, 3)), Turns: roomy(bound(0, 1, 2, 3))},
+			api.Outline{Corners: math.MaxInt, Ways: roomy(worst)}, api.Outline{Corners: math.MinInt, Turns: roomy(worst)}, api.Outline{Corners: 16, Turns: roomy(worst)},
+		}
+	}
+	return []any{
+		[]api.Item(nil), items(lines[:1]...), items(lines...), items(append(lines, doubtful...)...), items("1 0 sherd a 1 1 3", "1 0 sherd a 1 1 3"),
+		roomy(api.Item{}), roomy(worstItem(2)), append(items(lines...), worstItem(7)), make([]api.Item, 301),
+	}
+}
