@@ -1,12 +1,12 @@
 package gauge_test
 
 import (
-	"math"
 	"slices"
 	"testing"
 
 	"conjoin/api"
 	"conjoin/gauge"
+	"conjoin/oracle"
 )
 
 // This file has an oracle: slow functions that say by other ways than the package what is right.
@@ -79,34 +79,8 @@ func eachSystem(f func(api.System)) {
 	}
 }
 
-const none = math.MaxInt / 4
-
-// table has the greatest differences of all points against all, by way of one point more in each round; false if there is no solution.
-func table(s api.System) ([][]int, bool) {
-	t := make([][]int, s.Points)
-	for i := range t {
-		t[i] = slices.Repeat([]int{none}, s.Points)
-		t[i][i] = 0
-	}
-	for _, b := range s.Bounds {
-		t[b.From][b.To] = min(t[b.From][b.To], b.Most)
-	}
-	for m := range t {
-		for i := range t {
-			for j := range t {
-				if t[i][m] < none && t[m][j] < none {
-					t[i][j] = min(t[i][j], t[i][m]+t[m][j])
-				}
-			}
-		}
-	}
-	for i := range t {
-		if t[i][i] < 0 {
-			return nil, false
-		}
-	}
-	return t, true
-}
+// table has the greatest differences of all points against all; false if there is no solution.
+func table(s api.System) ([][]int, bool) { return oracle.Differences(s.Points, s.Bounds) }
 
 // endIn is the greatest or the least difference in a table.
 func endIn(t [][]int, a, b int, upper bool) (int, bool) {
@@ -114,7 +88,7 @@ func endIn(t [][]int, a, b int, upper bool) (int, bool) {
 		n, ok := endIn(t, b, a, true)
 		return -n, ok
 	}
-	if t[a][b] == none {
+	if t[a][b] == oracle.Far {
 		return 0, false
 	}
 	return t[a][b], true

@@ -5,12 +5,13 @@ import (
 	"reflect"
 
 	"conjoin/api"
+	"conjoin/edge"
 	"conjoin/gauge"
 	"conjoin/sherd"
 )
 
 // faces are the packages that are built.
-func faces() []face { return []face{gaugeFace(), sherdFace()} }
+func faces() []face { return []face{gaugeFace(), sherdFace(), edgeFace()} }
 
 func gaugeFace() face {
 	return face{
@@ -142,5 +143,92 @@ func someOfSherd(of reflect.Type) []any {
 	return []any{
 		[]api.Item(nil), items(lines[:1]...), items(lines...), items(append(lines, doubtful...)...), items("1 0 sherd a 1 1 3", "1 0 sherd a 1 1 3"),
 		roomy(api.Item{}), roomy(worstItem(2)), append(items(lines...), worstItem(7)), make([]api.Item, 301),
+	}
+}
+
+func edgeFace() face {
+	return face{
+		name: "edge",
+		calls: map[string]any{
+			"CheckOutline": edge.CheckOutline, "CheckPairing": edge.CheckPairing, "With": edge.With, "Flaw": edge.Flaw,
+			"CheckFlaw": edge.CheckFlaw, "Fit": edge.Fit, "Meets": edge.Meets, "Place": edge.Place, "CheckPlace": edge.CheckPlace,
+			"Clash": edge.Clash, "CheckClash": edge.CheckClash, "Rests": edge.Rests, "Shared": edge.Shared, "Pairs": edge.Pairs,
+			"Longest": edge.Longest, "Maximal": edge.Maximal, "Overlap": edge.Overlap, "Bare": edge.Bare, "Write": edge.Write, "Read": edge.Read,
+		},
+		some:  someOfEdge,
+		first: firstOfEdge,
+	}
+}
+
+// firstOfEdge is the error of the first outline that has one, and then that of the pairing.
+func firstOfEdge(args []reflect.Value) api.Errno {
+	var outlines []api.Outline
+	for _, x := range args {
+		switch y := x.Interface().(type) {
+		case api.Outline:
+			if e := edge.CheckOutline(y); e != api.OK {
+				return e
+			}
+			outlines = append(outlines, y)
+		case api.Pairing:
+			if len(outlines) == 2 {
+				return edge.CheckPairing(outlines[0], outlines[1], y)
+			}
+		}
+	}
+	return api.OK
+}
+
+func outline(corners int, ways, turns []api.Bound) api.Outline {
+	return api.Outline{Corners: corners, Ways: roomy(ways...), Turns: roomy(turns...)}
+}
+
+func someOfEdge(of reflect.Type) []any {
+	worst := bound(math.MinInt, math.MaxInt, math.MinInt, math.MaxInt)
+	stretch := func(from, to int) api.Stretch { return api.Stretch{From: from, To: to} }
+	far := stretch(math.MinInt, math.MaxInt)
+	switch reflect.Zero(of).Interface().(type) {
+	case int:
+		return anyInts()
+	case bool:
+		return []any{false, true}
+	case string:
+		return []any{"", "0 1 1 2", "0 1 1 2 ", "x", "0 99999999999999999999 0 1", "\xff"}
+	case api.Bound:
+		return []any{bound(0, 1, 3, 6), bound(1, 0, -11, 5), bound(3, 0, 0, 0), worst}
+	case api.Stretch:
+		return []any{stretch(0, 1), stretch(1, 3), stretch(2, 1), far, stretch(math.MaxInt, math.MinInt)}
+	case []api.Stretch:
+		return []any{[]api.Stretch(nil), roomy(stretch(0, 1), stretch(1, 3)), roomy(far), make([]api.Stretch, 101)}
+	case api.Pairing:
+		return []any{
+			api.Pairing{}, api.Pairing{A: stretch(0, 1), B: stretch(1, 2)}, api.Pairing{A: stretch(0, 2), B: stretch(0, 2)}, api.Pairing{A: stretch(0, 1), B: stretch(0, 1)},
+			api.Pairing{A: stretch(0, 3), B: stretch(0, 2)}, api.Pairing{A: far, B: far}, api.Pairing{A: stretch(0, 16), B: stretch(0, 16)},
+		}
+	case api.Flaw:
+		return []any{
+			api.Flaw{}, api.Flaw{Circle: roomy(0, 5)}, api.Flaw{Circle: roomy(0, 1)}, api.Flaw{Turns: true, Circle: roomy(0, 2)},
+			api.Flaw{Turns: true, Circle: roomy(math.MinInt, math.MaxInt)},
+		}
+	case api.Placement:
+		return []any{
+			api.Placement{}, api.Placement{A: roomy(0, 11, 31, 36), B: roomy(0, 20, 31, 40), DirA: roomy(0, 90, 190), DirB: roomy(0, -95, -115)},
+			api.Placement{A: roomy(math.MinInt, math.MaxInt, 0, 0), B: roomy(0, 0, 0, math.MaxInt), DirA: roomy(0, math.MinInt, 0), DirB: roomy(math.MaxInt)},
+		}
+	}
+	a := outline(3,
+		[]api.Bound{bound(0, 1, 12, 1), bound(1, 0, -10, 1), bound(1, 2, 22, 2), bound(2, 1, -20, 2), bound(2, 3, 5, 3), bound(3, 2, -5, 3)},
+		[]api.Bound{bound(0, 1, 100, 4), bound(1, 0, -90, 4), bound(1, 2, 140, 5), bound(2, 1, -100, 5)})
+	b := outline(3,
+		[]api.Bound{bound(0, 1, 25, 6), bound(1, 0, -20, 6), bound(1, 2, 15, 7), bound(2, 1, -11, 7), bound(2, 3, 9, 8), bound(3, 2, -9, 8)},
+		[]api.Bound{bound(0, 1, -95, 9), bound(1, 0, 120, 9), bound(1, 2, -20, 10), bound(2, 1, 30, 10)})
+	c := outline(3, []api.Bound{bound(0, 1, 12, 1)}, []api.Bound{bound(0, 1, 10, 4), bound(1, 0, -11, 5)})
+	many := make([]api.Bound, 201)
+	for i := range many {
+		many[i] = bound(0, 1, 1000, 0)
+	}
+	return []any{
+		a, b, c, api.Outline{Corners: 16}, outline(4, many, many), outline(3, []api.Bound{worst}, nil), outline(3, make([]api.Bound, 401), nil),
+		outline(math.MaxInt, []api.Bound{bound(0, 1<<40, 0, 0)}, nil), outline(math.MinInt, nil, nil),
 	}
 }

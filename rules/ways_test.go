@@ -72,6 +72,7 @@ func TestWays(t *testing.T) {
 	for name, ways := range map[string]string{
 		"gauge": "array range-function label map method-value generic-function closure panic recover defer array-compared variadic",
 		"sherd": "array map method-expression panic recover defer range-function generic-function closure struct-compared",
+		"edge":  "range-function label closure method-value array embedding three-index map struct-compared",
 	} {
 		if _, err := p.Import("conjoin/" + name); err != nil {
 			t.Fatal(err)
@@ -105,6 +106,12 @@ func (p *typed) note(n ast.Node, called map[ast.Expr]bool, got map[string]bool) 
 		is("label", x.Label != nil)
 	case *ast.MapType:
 		is("map", true)
+	case *ast.StructType:
+		for _, f := range x.Fields.List {
+			is("embedding", len(f.Names) == 0)
+		}
+	case *ast.SliceExpr:
+		is("three-index", x.Slice3)
 	case *ast.FuncDecl:
 		is("generic-function", x.Type.TypeParams != nil)
 	case *ast.FuncLit:

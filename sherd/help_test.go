@@ -7,6 +7,7 @@ import (
 	"testing"
 
 	"conjoin/api"
+	"conjoin/oracle"
 	"conjoin/sherd"
 )
 
@@ -227,35 +228,6 @@ func eachSherd(t *testing.T, n int, f func(l []api.Item, day, id, corners int)) 
 	})
 }
 
-const far = 1 << 30
-
-// ends are the greatest differences of all points, by way of one point more in each round; false if bounds contradict each other.
-func ends(points int, bounds []api.Bound) ([][]int, bool) {
-	m := make([][]int, points)
-	for i := range m {
-		m[i] = slices.Repeat([]int{far}, points)
-		m[i][i] = 0
-	}
-	for _, b := range bounds {
-		m[b.From][b.To] = min(m[b.From][b.To], b.Most)
-	}
-	for k := range m {
-		for i := range m {
-			for j := range m {
-				if m[i][k] < far && m[k][j] < far {
-					m[i][j] = min(m[i][j], m[i][k]+m[k][j])
-				}
-			}
-		}
-	}
-	for i := range m {
-		if m[i][i] < 0 {
-			return nil, false
-		}
-	}
-	return m, true
-}
-
 // wayBounds are the Ways of an outline as known, of some ways alone.
 func wayBounds(n int, ways []api.Item) []api.Bound {
 	var b []api.Bound
@@ -286,10 +258,10 @@ func itemBounds(l []api.Item) []api.Bound {
 func clash(kind uint8, n int, l []api.Item) bool {
 	switch kind {
 	case api.DoubtWay:
-		_, ok := ends(n+1, wayBounds(n, l))
+		_, ok := oracle.Differences(n+1, wayBounds(n, l))
 		return !ok
 	case api.DoubtTurn:
-		_, ok := ends(n, turnBounds(n, l))
+		_, ok := oracle.Differences(n, turnBounds(n, l))
 		return !ok
 	case api.DoubtColour:
 		for _, x := range l {

@@ -7,6 +7,7 @@ import (
 	"testing"
 
 	"conjoin/api"
+	"conjoin/oracle"
 	"conjoin/sherd"
 )
 
@@ -184,10 +185,10 @@ func TestRestsOfExamples(t *testing.T) {
 
 // left goes through ways as B8 says it.
 func left(n int, ways []api.Item, from, to int) []int {
-	m, _ := ends(n+1, wayBounds(n, ways))
+	m, _ := oracle.Differences(n+1, wayBounds(n, ways))
 	for i := len(ways) - 1; i >= 0; i-- {
 		less := without(ways, i)
-		if k, _ := ends(n+1, wayBounds(n, less)); k[from][to] == m[from][to] {
+		if k, _ := oracle.Differences(n+1, wayBounds(n, less)); k[from][to] == m[from][to] {
 			ways = less
 		}
 	}
@@ -198,7 +199,7 @@ func left(n int, ways []api.Item, from, to int) []int {
 func TestRests(t *testing.T) {
 	eachSherd(t, 150, func(l []api.Item, day, id, n int) {
 		ways := own(l, day, id, 2)
-		if m, ok := ends(n+1, wayBounds(n, ways)); !ok {
+		if m, ok := oracle.Differences(n+1, wayBounds(n, ways)); !ok {
 			wantRests(t, l, day, id, 0, n, true, nil, api.ErrDoubt)
 		} else {
 			for from := range n {
@@ -207,11 +208,11 @@ func TestRests(t *testing.T) {
 					wantRests(t, l, day, id, from, to, false, left(n, ways, to, from), api.OK)
 					got, _ := sherd.Rests(l, day, id, from, to, true)
 					some := slices.DeleteFunc(slices.Clone(ways), func(x api.Item) bool { return !slices.Contains(got, x.Id) })
-					if k, _ := ends(n+1, wayBounds(n, some)); k[from][to] != m[from][to] {
+					if k, _ := oracle.Differences(n+1, wayBounds(n, some)); k[from][to] != m[from][to] {
 						t.Errorf("Rests(%v, %d, %d, %d, %d): %v alone", l, day, id, from, to, got)
 					}
 					for i := range some {
-						if k, _ := ends(n+1, wayBounds(n, without(some, i))); k[from][to] == m[from][to] {
+						if k, _ := oracle.Differences(n+1, wayBounds(n, without(some, i))); k[from][to] == m[from][to] {
 							t.Errorf("Rests(%v, %d, %d, %d, %d): %v without index %d", l, day, id, from, to, got, i)
 						}
 					}

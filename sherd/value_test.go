@@ -6,6 +6,7 @@ import (
 	"testing"
 
 	"conjoin/api"
+	"conjoin/oracle"
 	"conjoin/sherd"
 )
 
@@ -96,14 +97,14 @@ func TestValuesOfExamples(t *testing.T) {
 func TestEnds(t *testing.T) {
 	doubtful, endless, inside := 0, 0, 0
 	eachSherd(t, 300, func(l []api.Item, day, id, n int) {
-		m, ok := ends(n+1, wayBounds(n, own(l, day, id, 2)))
+		m, ok := oracle.Differences(n+1, wayBounds(n, own(l, day, id, 2)))
 		for from := range n {
 			for to := from + 1; to <= n; to++ {
 				switch {
 				case !ok:
 					doubtful++
 					wantWay(t, l, day, id, from, to, 0, 0, false, api.ErrDoubt)
-				case m[from][to] == far:
+				case m[from][to] == oracle.Far:
 					endless++
 					wantWay(t, l, day, id, from, to, 0, 0, false, api.OK)
 				default:
@@ -112,7 +113,7 @@ func TestEnds(t *testing.T) {
 				}
 			}
 		}
-		m, ok = ends(n, turnBounds(n, own(l, day, id, 3)))
+		m, ok = oracle.Differences(n, turnBounds(n, own(l, day, id, 3)))
 		for from := range n {
 			for to := from + 1; to < n; to++ {
 				if ok {
