@@ -133,16 +133,26 @@ func isAlone(results []reflect.Value) bool {
 		switch x := v.Interface().(type) {
 		case api.Errno:
 			bare = bare || x != api.OK
+		case api.Fault:
+			bare = bare || x.Err != api.OK
 		case bool:
 			bare = bare || !x
 		}
 	}
 	for _, v := range results {
-		if _, isErr := v.Interface().(api.Errno); bare && !isErr && !plain(v).IsZero() {
+		if bare && !isErrorValue(v) && !plain(v).IsZero() {
 			return false
 		}
 	}
 	return true
+}
+
+func isErrorValue(v reflect.Value) bool {
+	switch v.Interface().(type) {
+	case api.Errno, api.Fault:
+		return true
+	}
+	return false
 }
 
 // areApart says whether no two lists of some results share memory.

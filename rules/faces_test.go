@@ -7,11 +7,12 @@ import (
 	"conjoin/api"
 	"conjoin/edge"
 	"conjoin/gauge"
+	"conjoin/profile"
 	"conjoin/sherd"
 )
 
 // faces are the packages that are built.
-func faces() []face { return []face{gaugeFace(), sherdFace(), edgeFace()} }
+func faces() []face { return []face{gaugeFace(), sherdFace(), edgeFace(), profileFace()} }
 
 func gaugeFace() face {
 	return face{
@@ -230,5 +231,74 @@ func someOfEdge(of reflect.Type) []any {
 	return []any{
 		a, b, c, api.Outline{Corners: 16}, outline(4, many, many), outline(3, []api.Bound{worst}, nil), outline(3, make([]api.Bound, 401), nil),
 		outline(math.MaxInt, []api.Bound{bound(0, 1<<40, 0, 0)}, nil), outline(math.MinInt, nil, nil),
+	}
+}
+
+func profileFace() face {
+	return face{
+		name: "profile",
+		calls: map[string]any{
+			"ParseTypes": profile.ParseTypes, "PrintTypes": profile.PrintTypes, "CheckTypes": profile.CheckTypes, "CheckRings": profile.CheckRings,
+			"IsProfile": profile.IsProfile, "First": profile.First, "Many": profile.Many, "Letters": profile.Letters, "Dead": profile.Dead,
+			"Overlap": profile.Overlap, "Wares": profile.Wares, "Complete": profile.Complete, "CheckFit": profile.CheckFit, "Blanks": profile.Blanks,
+			"CheckBlanks": profile.CheckBlanks, "Shifts": profile.Shifts, "Choices": profile.Choices, "Ruled": profile.Ruled,
+		},
+		some:  someOfProfile,
+		first: firstOfProfile,
+	}
+}
+
+// firstOfProfile is the error of types, and then that of rings.
+func firstOfProfile(args []reflect.Value) api.Errno {
+	l, ok := args[0].Interface().([]api.Type)
+	if !ok {
+		return api.OK
+	}
+	e := profile.CheckTypes(l)
+	for _, x := range args {
+		if r, ok := x.Interface().([]api.Ring); ok && e == api.OK {
+			return profile.CheckRings(r)
+		}
+	}
+	return e
+}
+
+const vessels = "type jar bell 3 4\nrim ab\nbase d\nafter a c\nafter b ce\nafter c cd\ntype cup bell 2 3\nrim b\nbase cd\nafter b c\nafter c d\n"
+
+func typesIn(src string) []api.Type {
+	l, _ := profile.ParseTypes(src)
+	return roomy(l...)
+}
+
+func someOfProfile(of reflect.Type) []any {
+	ring := func(at int, set string) api.Ring { return api.Ring{At: at, Set: set} }
+	switch reflect.Zero(of).Interface().(type) {
+	case int:
+		return anyInts()
+	case string:
+		return []any{"", "bell", "wine", "acd", "bcdddddddddddddd", "\xff", " ", vessels, "type x y 1 2\nrim a", "type x y 2 1\nrim a\nbase a", "rim a"}
+	case []api.Ring:
+		return []any{
+			[]api.Ring(nil), roomy(ring(0, "c"), ring(1, "d")), roomy(ring(0, "a"), ring(3, "c")), roomy(ring(11, "z")), roomy(ring(1, "c"), ring(1, "c")),
+			roomy(ring(math.MinInt, "\xff")), roomy(ring(math.MaxInt, "")), make([]api.Ring, 13),
+		}
+	case api.Fit:
+		return []any{
+			api.Fit{}, api.Fit{Shift: 1, Word: "acd"}, api.Fit{Word: "accd"}, api.Fit{Type: 1, Word: "bcd"}, api.Fit{Type: math.MinInt, Shift: math.MaxInt, Word: "\xff"},
+			api.Fit{Type: math.MaxInt, Shift: math.MinInt}, api.Fit{Shift: math.MaxInt, Word: "accd"},
+		}
+	case []api.Blank:
+		return []any{
+			[]api.Blank(nil), roomy(api.Blank{Sets: roomy("a", "c", "cd", "c")}), roomy(api.Blank{Sets: roomy("a", "c", "\xff", "c")}), roomy(api.Blank{}),
+			roomy(api.Blank{Type: math.MinInt, Shift: math.MaxInt, Sets: make([]string, 13)}), roomy(api.Blank{Sets: make([]string, 4)}, api.Blank{Sets: make([]string, 3)}),
+		}
+	}
+	maze := api.Type{Name: "maze", Ware: "bell", Least: 1, Most: 12, Rim: "abcdefghijklmnopqrstuvwxy", Base: "z"}
+	for i := range maze.After {
+		maze.After[i] = maze.Rim
+	}
+	worst := api.Type{Name: "\xff", Ware: "", Least: math.MinInt, Most: math.MaxInt, Rim: "\x00", Base: "zz", After: [26]string{"\xff"}}
+	return []any{
+		[]api.Type(nil), typesIn(vessels), roomy(maze), roomy(append(typesIn(vessels), maze)...), roomy(append(typesIn(vessels), worst)...), roomy(maze, maze), roomy(api.Type{}), make([]api.Type, 13),
 	}
 }

@@ -70,9 +70,10 @@ func load(t *testing.T) *typed {
 func TestWays(t *testing.T) {
 	p := load(t)
 	for name, ways := range map[string]string{
-		"gauge": "array range-function label map method-value generic-function closure panic recover defer array-compared variadic",
-		"sherd": "array map method-expression panic recover defer range-function generic-function closure struct-compared",
-		"edge":  "range-function label closure method-value array embedding three-index map struct-compared",
+		"gauge":   "array range-function label map method-value generic-function closure panic recover defer array-compared variadic",
+		"sherd":   "array map method-expression panic recover defer range-function generic-function closure struct-compared",
+		"edge":    "range-function label closure method-value array embedding three-index map struct-compared",
+		"profile": "array array-compared range-function closure label method-expression map panic recover defer method-value generic-function",
 	} {
 		if _, err := p.Import("conjoin/" + name); err != nil {
 			t.Fatal(err)
