@@ -7,12 +7,15 @@ import (
 	"conjoin/api"
 	"conjoin/edge"
 	"conjoin/gauge"
+	"conjoin/join"
 	"conjoin/profile"
 	"conjoin/sherd"
 )
 
 // faces are the packages that are built.
-func faces() []face { return []face{gaugeFace(), sherdFace(), edgeFace(), profileFace()} }
+func faces() []face {
+	return []face{gaugeFace(), sherdFace(), edgeFace(), profileFace(), joinFace()}
+}
 
 func gaugeFace() face {
 	return face{
@@ -300,5 +303,86 @@ func someOfProfile(of reflect.Type) []any {
 	worst := api.Type{Name: "\xff", Ware: "", Least: math.MinInt, Most: math.MaxInt, Rim: "\x00", Base: "zz", After: [26]string{"\xff"}}
 	return []any{
 		[]api.Type(nil), typesIn(vessels), roomy(maze), roomy(append(typesIn(vessels), maze)...), roomy(append(typesIn(vessels), worst)...), roomy(maze, maze), roomy(api.Type{}), make([]api.Type, 13),
+	}
+}
+
+func joinFace() face {
+	return face{
+		name: "join",
+		calls: map[string]any{
+			"CheckClaim": join.CheckClaim, "Check": join.Check, "Append": join.Append, "State": join.State, "Write": join.Write, "Read": join.Read,
+			"CheckFiles": join.CheckFiles, "Joins": join.Joins, "Idle": join.Idle, "Groups": join.Groups, "GroupOf": join.GroupOf,
+			"Heights": join.Heights, "HeightDoubt": join.HeightDoubt, "Rings": join.Rings, "Completed": join.Completed, "Sound": join.Sound,
+			"Part": join.Part, "Parts": join.Parts, "Rests": join.Rests, "Bare": join.Bare, "Would": join.Would, "Reached": join.Reached,
+		},
+		some:  someOfJoin,
+		first: firstOfJoin,
+		kept:  []string{"Check"},
+	}
+}
+
+// firstOfJoin is the error of files, or that of a register.
+func firstOfJoin(args []reflect.Value) api.Errno {
+	switch x := args[0].Interface().(type) {
+	case api.Files:
+		return join.CheckFiles(x)
+	case []api.Claim:
+		_, e := join.Check(x)
+		return e
+	}
+	return api.OK
+}
+
+func claims(lines ...string) []api.Claim {
+	list := roomy[api.Claim]()
+	for _, line := range lines {
+		x, _ := join.Read(line)
+		list = append(list, x)
+	}
+	return roomy(list...)
+}
+
+// worstClaim has fields that no kind allows.
+func worstClaim(kind uint8) api.Claim {
+	far := api.Stretch{From: math.MinInt, To: math.MaxInt}
+	return api.Claim{Id: math.MinInt, Known: math.MaxInt, Kind: kind, A: math.MinInt, B: math.MaxInt, SideA: far, SideB: far, Of: math.MinInt}
+}
+
+func someOfJoin(of reflect.Type) []any {
+	lines := []string{"21 1 below 1 2 0 1 2 3", "22 2 confirm 21", "23 2 beside 2 59 3 4 0 1", "24 2 confirm 23", "25 2 beside 59 7 0 1 0 1", "26 2 confirm 25"}
+	circle := append(lines, "27 59 below 2 1 0 1 2 3", "28 59 confirm 27", "29 59 drop 23")
+	switch reflect.Zero(of).Interface().(type) {
+	case int:
+		return []any{0, 1, 2, 59, math.MaxInt, math.MinInt}
+	case string:
+		return []any{"", "red", "\xff", "21 1 below 1 2 0 1 2 3", "1 0 void 1", "1 0 beside 1 2 0 1", "1 0 \xff 1", "1 0 void 99999999999999999999", "1 0 below 1 2 0 1 0 1 0 1"}
+	case api.Claim:
+		list := []any{}
+		for _, x := range claims("30 59 beside 1 2 1 2 1 2", "30 59 below 1 59 0 1 0 1", "30 59 beside 1 7 0 1 0 1", "30 59 void 22", "30 59 confirm 25", "20 59 beside 2 59 8 9 8 9", "30 0 drop 21") {
+			list = append(list, x)
+		}
+		for kind := range uint8(7) {
+			list = append(list, worstClaim(kind))
+		}
+		return list
+	case []api.Claim:
+		return []any{
+			[]api.Claim(nil), claims(lines...), claims(circle...), claims("1 0 void 1"), roomy(worstClaim(1)), roomy(worstClaim(5)), make([]api.Claim, 201),
+		}
+	}
+	types := typesIn("type jar red 2 4\nrim r\nbase b\nafter r bs\nafter s bs\n")
+	found := items("1 0 sherd red 1 1 4", "2 0 sherd red 1 1 5 foot", "59 0 sherd red 1 1 4", "4 0 curve 1 r", "5 0 curve 2 bs", "11 0 colour 1 10 20", "12 59 colour 2 15 40", "13 59 way 1 0 1 1 4", "14 59 way 2 2 3 5 9")
+	many := roomy[api.Item]()
+	chain := roomy[api.Claim]()
+	for i := range 45 {
+		many = append(many, api.Item{Id: i + 1, Kind: api.ItemSherd, Ware: "red", Pit: 1, Layer: 1, Corners: 3})
+		if i > 0 {
+			chain = append(chain, api.Claim{Id: i, Kind: api.ClaimBelow, A: i, B: i + 1, SideA: api.Stretch{To: 1}, SideB: api.Stretch{From: 1, To: 2}}, api.Claim{Id: 100 + i, Kind: api.ClaimConfirm, Of: i})
+		}
+	}
+	return []any{
+		api.Files{}, api.Files{Types: types, Items: found}, api.Files{Types: types, Items: found, Claims: claims(lines...)}, api.Files{Types: types, Items: found, Claims: claims(circle...)},
+		api.Files{Types: types, Items: many, Claims: chain}, api.Files{Claims: claims(lines...)}, api.Files{Types: roomy(api.Type{}), Items: found}, api.Files{Types: types, Items: roomy(worstItem(2))},
+		api.Files{Types: types, Items: found, Claims: roomy(worstClaim(3))}, api.Files{Types: types, Items: found, Claims: append(claims(lines...), worstClaim(1))},
 	}
 }

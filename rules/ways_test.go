@@ -74,6 +74,7 @@ func TestWays(t *testing.T) {
 		"sherd":   "array map method-expression panic recover defer range-function generic-function closure struct-compared",
 		"edge":    "range-function label closure method-value array embedding three-index map struct-compared",
 		"profile": "array array-compared range-function closure label method-expression map panic recover defer method-value generic-function",
+		"join":    "map range-function array embedding promoted label struct-compared panic recover defer generic-function closure method-value",
 	} {
 		if _, err := p.Import("conjoin/" + name); err != nil {
 			t.Fatal(err)
@@ -132,6 +133,7 @@ func (p *typed) note(n ast.Node, called map[ast.Expr]bool, got map[string]bool) 
 		s := p.info.Selections[x]
 		is("method-value", s != nil && s.Kind() == types.MethodVal && !called[x])
 		is("method-expression", s != nil && s.Kind() == types.MethodExpr)
+		is("promoted", s != nil && len(s.Index()) > 1)
 	case *ast.BinaryExpr:
 		if x.Op == token.EQL || x.Op == token.NEQ {
 			_, isArray := p.info.Types[x.X].Type.Underlying().(*types.Array)
