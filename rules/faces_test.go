@@ -10,11 +10,12 @@ import (
 	"conjoin/join"
 	"conjoin/profile"
 	"conjoin/sherd"
+	"conjoin/whole"
 )
 
 // faces are the packages that are built.
 func faces() []face {
-	return []face{gaugeFace(), sherdFace(), edgeFace(), profileFace(), joinFace()}
+	return []face{gaugeFace(), sherdFace(), edgeFace(), profileFace(), joinFace(), wholeFace()}
 }
 
 func gaugeFace() face {
@@ -385,4 +386,66 @@ func someOfJoin(of reflect.Type) []any {
 		api.Files{Types: types, Items: many, Claims: chain}, api.Files{Claims: claims(lines...)}, api.Files{Types: roomy(api.Type{}), Items: found}, api.Files{Types: types, Items: roomy(worstItem(2))},
 		api.Files{Types: types, Items: found, Claims: roomy(worstClaim(3))}, api.Files{Types: types, Items: found, Claims: append(claims(lines...), worstClaim(1))},
 	}
+}
+
+func wholeFace() face {
+	return face{
+		name: "whole",
+		calls: map[string]any{
+			"CheckCase": whole.CheckCase, "Collect": whole.Collect, "Clash": whole.Clash, "Rivals": whole.Rivals, "Common": whole.Common, "One": whole.One,
+			"Merge": whole.Merge, "Without": whole.Without, "Limited": whole.Limited, "Demand": whole.Demand, "Least": whole.Least,
+			"Witness": whole.Witness, "CheckWitness": whole.CheckWitness, "Show": whole.Show, "CheckShow": whole.CheckShow, "Critical": whole.Critical,
+			"Numbers": whole.Numbers, "Assign": whole.Assign, "CheckAssign": whole.CheckAssign, "Colours": whole.Colours,
+			"Joint": whole.Joint, "Bar": whole.Bar, "CheckBar": whole.CheckBar,
+		},
+		some:  someOfWhole,
+		first: firstOfWhole,
+	}
+}
+
+// firstOfWhole is the error of a case, or that of files.
+func firstOfWhole(args []reflect.Value) api.Errno {
+	if c, ok := args[0].Interface().(api.Case); ok {
+		return whole.CheckCase(c)
+	}
+	return join.CheckFiles(args[0].Interface().(api.Files))
+}
+
+// worstPart has fields that no part has.
+func worstPart() api.Part {
+	return api.Part{
+		Sherds: roomy(math.MinInt, math.MaxInt), Span: api.Span{Low: math.MinInt, High: math.MaxInt, LowBy: math.MinInt, HighBy: math.MaxInt},
+		FootBy: math.MinInt, Rests: roomy(math.MaxInt, math.MinInt),
+	}
+}
+
+func someOfWhole(of reflect.Type) []any {
+	piece := func(sherd, low, high int, foot bool, rests ...int) api.Part {
+		return api.Part{Sherds: roomy(sherd, sherd+500), Span: api.Span{Low: low, High: high}, Foot: foot, Rests: roomy(rests...)}
+	}
+	four := roomy(piece(101, 10, 20, true, 3, 4), piece(102, 15, 30, false), piece(103, 25, 40, true, 4, 9), piece(104, 12, 14, false, 3))
+	switch reflect.Zero(of).Interface().(type) {
+	case int:
+		return anyInts()
+	case []int:
+		return []any{[]int(nil), roomy(0), roomy(0, 2), roomy(0, 1, 1, 0), roomy(0, 1, 2), roomy(3, 3, 0), roomy(math.MinInt, math.MaxInt, -1, 40)}
+	case api.Range:
+		return []any{api.Range{}, api.Range{Low: 10, High: 40}, api.Range{Low: math.MinInt, High: math.MaxInt}, api.Range{Low: math.MaxInt, High: math.MinInt}}
+	case []api.Range:
+		return []any{
+			[]api.Range(nil), roomy(api.Range{Low: 10, High: 20}, api.Range{Low: 21, High: 1000}), roomy(api.Range{Low: 5, High: 5}, api.Range{Low: 5, High: 40}),
+			roomy(api.Range{High: math.MaxInt}, api.Range{Low: math.MinInt}), roomy(api.Range{Low: math.MinInt, High: math.MaxInt}),
+		}
+	case api.Case:
+		full := roomy[api.Part]()
+		for i := range api.MaxCase {
+			full = append(full, piece(i+1, 20*i, 20*i+30, i%2 == 0, i+1, i+2))
+		}
+		return []any{
+			api.Case{}, api.Case{Ware: "bell"}, api.Case{Ware: "bell", Limit: 2, By: 59, Parts: four}, api.Case{Ware: "bell", Parts: four}, api.Case{Ware: "bell", Limit: 1, Parts: four},
+			api.Case{Ware: "bell", Limit: 40, Parts: full}, api.Case{Ware: "bell", Parts: append(four[:4:4], worstPart())}, api.Case{Ware: "bell", Limit: math.MinInt, By: math.MaxInt},
+			api.Case{Ware: "\xff", Parts: make([]api.Part, 41)},
+		}
+	}
+	return someOfJoin(of)
 }

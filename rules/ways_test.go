@@ -75,6 +75,7 @@ func TestWays(t *testing.T) {
 		"edge":    "range-function label closure method-value array embedding three-index map struct-compared",
 		"profile": "array array-compared range-function closure label method-expression map panic recover defer method-value generic-function",
 		"join":    "map range-function array embedding promoted label struct-compared panic recover defer generic-function closure method-value",
+		"whole":   "generic-function closure map struct-compared method-value range-function label embedding promoted array three-index",
 	} {
 		if _, err := p.Import("conjoin/" + name); err != nil {
 			t.Fatal(err)
@@ -134,6 +135,11 @@ func (p *typed) note(n ast.Node, called map[ast.Expr]bool, got map[string]bool) 
 		is("method-value", s != nil && s.Kind() == types.MethodVal && !called[x])
 		is("method-expression", s != nil && s.Kind() == types.MethodExpr)
 		is("promoted", s != nil && len(s.Index()) > 1)
+	case *ast.IndexExpr:
+		if m, ok := p.info.Types[x.X].Type.Underlying().(*types.Map); ok { // keys are held against each other
+			_, isStruct := m.Key().Underlying().(*types.Struct)
+			is("struct-compared", isStruct)
+		}
 	case *ast.BinaryExpr:
 		if x.Op == token.EQL || x.Op == token.NEQ {
 			_, isArray := p.info.Types[x.X].Type.Underlying().(*types.Array)
