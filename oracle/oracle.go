@@ -1,4 +1,4 @@
-// Package oracle says, for the tests of several packages, what is right: slowly, and by another way than these packages.
+// Package oracle says, for the tests of several packages, what is right: slowly, and by another way than these packages. It also makes the cases that some of them are tested with.
 package oracle
 
 import (
@@ -36,4 +36,19 @@ func Differences(points int, bounds []api.Bound) ([][]int, bool) {
 		}
 	}
 	return m, true
+}
+
+// Lists are all lists of numbers of a length, each number from low to high.
+func Lists(length, low, high int) [][]int {
+	l := [][]int{nil}
+	for range length {
+		var longer [][]int
+		for _, x := range l {
+			for n := low; n <= high; n++ {
+				longer = append(longer, append(slices.Clone(x), n))
+			}
+		}
+		l = longer
+	}
+	return l
 }

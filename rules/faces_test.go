@@ -10,12 +10,13 @@ import (
 	"conjoin/join"
 	"conjoin/profile"
 	"conjoin/sherd"
+	"conjoin/sure"
 	"conjoin/whole"
 )
 
 // faces are the packages that are built.
 func faces() []face {
-	return []face{gaugeFace(), sherdFace(), edgeFace(), profileFace(), joinFace(), wholeFace()}
+	return []face{gaugeFace(), sherdFace(), edgeFace(), profileFace(), joinFace(), wholeFace(), sureFace()}
 }
 
 func gaugeFace() face {
@@ -448,4 +449,60 @@ func someOfWhole(of reflect.Type) []any {
 		}
 	}
 	return someOfJoin(of)
+}
+
+func sureFace() face {
+	return face{
+		name: "sure",
+		calls: map[string]any{
+			"CheckCase": sure.CheckCase, "Clash": sure.Clash, "Fits": sure.Fits, "First": sure.First, "Count": sure.Count, "With": sure.With,
+			"Answer": sure.Answer, "Answers": sure.Answers, "Open": sure.Open, "Certain": sure.Certain, "Refute": sure.Refute,
+			"CheckRefute": sure.CheckRefute, "None": sure.None, "CheckNone": sure.CheckNone, "Uses": sure.Uses, "Without": sure.Without, "Only": sure.Only,
+			"Lineage": sure.Lineage, "Narrow": sure.Narrow, "Reached": sure.Reached, "WriteRefute": sure.WriteRefute, "ReadRefute": sure.ReadRefute,
+		},
+		some:  someOfSure,
+		first: firstOfSure,
+	}
+}
+
+// firstOfSure is the error of the first case that has one.
+func firstOfSure(args []reflect.Value) api.Errno {
+	for _, x := range args {
+		if c, ok := x.Interface().(api.Case); ok {
+			if e := sure.CheckCase(c); e != api.OK {
+				return e
+			}
+		}
+	}
+	return api.OK
+}
+
+func someOfSure(of reflect.Type) []any {
+	refutation := func(s string) []api.Branch {
+		r, _ := sure.ReadRefute(s)
+		return roomy(r...)
+	}
+	worst := api.Branch{Kind: api.LeafMany, A: math.MinInt, B: math.MaxInt, Many: roomy(math.MinInt, math.MaxInt)}
+	switch reflect.Zero(of).Interface().(type) {
+	case int:
+		return []any{0, 1, 2, 59, math.MaxInt, math.MinInt}
+	case bool:
+		return []any{false, true}
+	case string:
+		return []any{"", "0+2+3", "2/1 0=2 1+2+3", "1#1", "0/8", "0+", " ", "\xff", "0/1/2"}
+	case []api.Branch:
+		list := []any{[]api.Branch(nil), roomy(worst), append(refutation("2/1"), worst), roomy(api.Branch{})}
+		for _, s := range []string{"0+2+3", "2/1 0=2 1+2+3", "1#1", "0=2", "0/1", "0+2"} {
+			list = append(list, refutation(s))
+		}
+		return list
+	case api.Case:
+		full := roomy[api.Part]()
+		for i := range api.MaxParts {
+			full = append(full, api.Part{Sherds: roomy(i + 1), Span: api.Span{Low: 20 * i, High: 20*i + 30, HighBy: 59}, Foot: i%4 == 0, Rests: roomy(i + 1)})
+		}
+		list := []any{api.Case{Ware: "bell", Limit: 5, Parts: full}, api.Case{Ware: "bell", Limit: 1, By: 59, Parts: full[:2:2]}, api.Case{Ware: "bell", Parts: make([]api.Part, 9)}}
+		return append(list, someOfWhole(of)...)
+	}
+	return someOfWhole(of)
 }

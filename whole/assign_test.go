@@ -6,12 +6,13 @@ import (
 	"testing"
 
 	"conjoin/api"
+	"conjoin/oracle"
 	"conjoin/whole"
 )
 
 func TestExamplesOfVessels(t *testing.T) {
-	c := limited()
-	u, tight := unlimited(c), crowded()
+	c := oracle.Limited()
+	u, tight := oracle.Unlimited(c), crowded()
 	tight.Limit = 2
 	want(t, "numbers", all(whole.Numbers(c)), all(2, 2, true, api.OK))
 	want(t, "numbers without a limit", all(whole.Numbers(u)), all(2, 4, true, api.OK))
@@ -42,8 +43,8 @@ func TestNumbers(t *testing.T) {
 	none, some := 0, 0
 	eachCase(t, 600, 7, func(c api.Case) {
 		there := map[int]bool{}
-		for _, v := range reassemblies(c) {
-			there[numberOf(v)] = true
+		for _, v := range oracle.Reassemblies(c) {
+			there[oracle.NumberOf(v)] = true
 		}
 		low, high, ok, e := whole.Numbers(c)
 		want(t, c, all(ok, e), all(len(there) > 0, api.OK))
@@ -57,7 +58,7 @@ func TestNumbers(t *testing.T) {
 			}
 			v, is, e := whole.Assign(c, n)
 			want(t, c, all(is, e), all(there[n], api.OK))
-			if is && (numberOf(v) != n || !isReassembly(c, v)) || !is && len(v) > 0 {
+			if is && (oracle.NumberOf(v) != n || !oracle.IsReassembly(c, v)) || !is && len(v) > 0 {
 				t.Errorf("%+v: %v with %d vessels", c, v, n)
 			}
 			want(t, c, all(whole.CheckAssign(c, v)), all(is || len(c.Parts) == 0, api.OK))
@@ -75,7 +76,7 @@ func TestNumbers(t *testing.T) {
 func TestLargeNumbers(t *testing.T) {
 	d := newDice(41)
 	for range 60 {
-		c := d.anyCase(40)
+		c := oracle.AnyCase(d, 40)
 		if c.Limit > 0 {
 			c.Limit = 40 - d.IntN(10)
 		}
@@ -92,7 +93,7 @@ func TestLargeNumbers(t *testing.T) {
 		}
 		for n := range 42 {
 			v, ok, e := whole.Assign(c, n)
-			if e != api.OK || ok != (least <= n && n <= top) || ok && (numberOf(v) != n || !isReassembly(c, v)) {
+			if e != api.OK || ok != (least <= n && n <= top) || ok && (oracle.NumberOf(v) != n || !oracle.IsReassembly(c, v)) {
 				t.Errorf("%+v: %v with %d vessels, %v, error %d", c, v, n, ok, e)
 			}
 		}
@@ -103,20 +104,8 @@ func TestLargeNumbers(t *testing.T) {
 func TestCheckAssign(t *testing.T) {
 	yes := 0
 	eachCase(t, 200, 4, func(c api.Case) {
-		n := len(c.Parts)
-		l := slices.Concat(lists(n, -1, n), lists(n+1, 0, n))
-		if n > 0 {
-			l = append(l, lists(n-1, 0, n)...)
-		}
-		for _, far := range []int{math.MinInt, math.MaxInt} {
-			for i := range n {
-				v := make([]int, n)
-				v[i] = far
-				l = append(l, v)
-			}
-		}
-		for _, v := range l {
-			is := isReassembly(c, v)
+		for _, v := range oracle.Numberings(len(c.Parts)) {
+			is := oracle.IsReassembly(c, v)
 			if ok, e := whole.CheckAssign(c, v); ok != is || e != api.OK {
 				t.Errorf("CheckAssign(%+v, %v): %v, error %d", c, v, ok, e)
 			}
@@ -129,8 +118,8 @@ func TestCheckAssign(t *testing.T) {
 			}
 			yes++
 			var right []api.Range
-			for vessel := range numberOf(v) {
-				s := shades(c, membersOf(v, vessel))
+			for vessel := range oracle.NumberOf(v) {
+				s := shades(c, oracle.MembersOf(v, vessel))
 				right = append(right, api.Range{Low: slices.Min(s), High: slices.Max(s)})
 			}
 			want(t, all(c, v), all(ranges, e), all(right, api.OK))
@@ -162,14 +151,14 @@ func TestColours(t *testing.T) {
 func TestBars(t *testing.T) {
 	joint, bars, clashes := 0, 0, 0
 	eachTwo(t, 2000, 6, func(c api.Case, a, b int) {
-		is := slices.ContainsFunc(reassemblies(c), func(v []int) bool { return v[a] == v[b] })
+		is := slices.ContainsFunc(oracle.Reassemblies(c), func(v []int) bool { return v[a] == v[b] })
 		v, ok, e := whole.Joint(c, a, b)
 		want(t, all(c, a, b), all(ok, e), all(is, api.OK))
 		bar, barred, e := whole.Bar(c, a, b)
 		want(t, all(c, a, b), all(barred, e), all(!is, api.OK))
 		if is {
 			joint++
-			if !isReassembly(c, v) || v[a] != v[b] || len(bar) > 0 {
+			if !oracle.IsReassembly(c, v) || v[a] != v[b] || len(bar) > 0 {
 				t.Errorf("%+v: %v, with %d and %d of one vessel, and the bar %v", c, v, a, b, bar)
 			}
 			want(t, c, all(whole.CheckAssign(c, v)), all(true, api.OK))
@@ -194,9 +183,9 @@ func TestBars(t *testing.T) {
 func TestCheckBar(t *testing.T) {
 	yes, longer := 0, 0
 	eachTwo(t, 250, 4, func(c api.Case, a, b int) {
-		is := slices.ContainsFunc(reassemblies(c), func(v []int) bool { return v[a] == v[b] })
+		is := slices.ContainsFunc(oracle.Reassemblies(c), func(v []int) bool { return v[a] == v[b] })
 		for length := range 5 {
-			for _, l := range lists(length, -1, len(c.Parts)) {
+			for _, l := range oracle.Lists(length, -1, len(c.Parts)) {
 				ok := isBar(c, a, b, l)
 				if got, e := whole.CheckBar(c, a, b, l); got != ok || e != api.OK || ok && is {
 					t.Errorf("CheckBar(%+v, %d, %d, %v): %v, error %d, and of one vessel: %v", c, a, b, l, got, e, is)
@@ -204,7 +193,7 @@ func TestCheckBar(t *testing.T) {
 				if ok && length > 0 {
 					yes++
 				}
-				if !ok && !clash(c, a, b) && c.Limit > 0 && length > c.Limit+1 && isWitness(glued(c, a, b), l) {
+				if !ok && !oracle.Clash(c, a, b) && c.Limit > 0 && length > c.Limit+1 && isWitness(glued(c, a, b), l) {
 					longer++
 				}
 			}
@@ -225,7 +214,7 @@ func TestLargeBars(t *testing.T) {
 		c.Parts = append(c.Parts, part(i+1, 0, 1000-i, i < 39))
 	}
 	v, ok, e := whole.Joint(c, 38, 39)
-	if !ok || e != api.OK || !isReassembly(c, v) || v[38] != v[39] {
+	if !ok || e != api.OK || !oracle.IsReassembly(c, v) || v[38] != v[39] {
 		t.Errorf("Joint: %v, %v, error %d", v, ok, e)
 	}
 	c.Limit = 38

@@ -6,11 +6,12 @@ import (
 	"testing"
 
 	"conjoin/api"
+	"conjoin/oracle"
 	"conjoin/whole"
 )
 
 func TestExamplesOfChanges(t *testing.T) {
-	c := limited()
+	c := oracle.Limited()
 	m, e := whole.Merge(c, 3, 0)
 	one := api.Part{Sherds: []int{101, 104}, Span: api.Span{Low: 12, High: 14, LowBy: 7, HighBy: 8}, Foot: true, FootBy: 11}
 	want(t, "merged", all(m, e), all(api.Case{Ware: "bell", Limit: 2, By: 20, Parts: []api.Part{one, c.Parts[1], c.Parts[2]}}, api.OK))
@@ -28,7 +29,7 @@ func TestLimited(t *testing.T) {
 	for _, limit := range numbers {
 		for _, by := range numbers {
 			isLimit, isId := limit >= 0 && limit <= 40, by >= 0 && by <= 1000000
-			for _, c := range []api.Case{limited(), crowded(), {Ware: "bell"}} {
+			for _, c := range []api.Case{oracle.Limited(), crowded(), {Ware: "bell"}} {
 				d := api.Case{Ware: c.Ware, Limit: limit, By: by, Parts: c.Parts}
 				if isLimit && isId && (limit > 0 || by == 0) {
 					want(t, d, all(whole.Limited(c, limit, by)), all(d, api.OK))
@@ -43,7 +44,7 @@ func TestLimited(t *testing.T) {
 // TestLimitedNoCase is that what is no case is none with another limit either.
 func TestLimitedNoCase(t *testing.T) {
 	for _, x := range [][2]int{{41, 0}, {-1, 0}, {2, -1}, {2, 1000001}, {0, 3}} {
-		c := limited()
+		c := oracle.Limited()
 		c.Limit, c.By = x[0], x[1]
 		want(t, x, all(whole.Limited(c, 2, 20)), all(api.Case{}, api.ErrArg))
 	}
@@ -137,7 +138,7 @@ func TestChanges(t *testing.T) {
 				switch {
 				case a == b:
 					want(t, c, all(whole.Merge(c, a, b)), all(api.Case{}, api.ErrArg))
-				case clash(c, a, b):
+				case oracle.Clash(c, a, b):
 					want(t, c, all(whole.Merge(c, a, b)), all(api.Case{}, api.ErrClash))
 				default:
 					merges++
@@ -195,14 +196,14 @@ func TestMerged(t *testing.T) {
 			more++
 		}
 		var together [][]int
-		for _, v := range reassemblies(m) {
+		for _, v := range oracle.Reassemblies(m) {
 			v = slices.Insert(v, max(a, b), v[min(a, b)])
 			if ok, e := whole.CheckAssign(c, v); !ok || e != api.OK {
 				t.Errorf("%+v: %v is none, error %d", c, v, e)
 			}
 			together = append(together, v)
 		}
-		of := slices.DeleteFunc(reassemblies(c), func(v []int) bool { return v[a] != v[b] })
+		of := slices.DeleteFunc(oracle.Reassemblies(c), func(v []int) bool { return v[a] != v[b] })
 		want(t, c, all(len(together)), all(len(of)))
 	})
 	if same < 2000 || more < 200 {

@@ -9,6 +9,7 @@ import (
 
 	"conjoin/api"
 	"conjoin/join"
+	"conjoin/oracle"
 	"conjoin/profile"
 	"conjoin/sherd"
 	"conjoin/whole"
@@ -122,7 +123,7 @@ func (d dice) anyItem(id, day int) string {
 	case 6:
 		return fmt.Sprintf("%d %d limit %s %d", id, day, ware, 1+d.IntN(4))
 	}
-	return fmt.Sprintf("%d %d void %d", id, day, d.oneOf(1+d.IntN(12), id-1, id-2))
+	return fmt.Sprintf("%d %d void %d", id, day, oracle.OneOf(d, 1+d.IntN(12), id-1, id-2))
 }
 
 // anyRecord is the line of a claim of a day, or of what is said of one before.

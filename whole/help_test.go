@@ -7,6 +7,7 @@ import (
 	"testing"
 
 	"conjoin/api"
+	"conjoin/oracle"
 	"conjoin/whole"
 )
 
@@ -17,25 +18,9 @@ func part(sherd, low, high int, foot bool) api.Part {
 	return api.Part{Sherds: []int{sherd}, Span: api.Span{Low: low, High: high}, Foot: foot}
 }
 
-// limited is the case L of the chapter's examples.
-func limited() api.Case {
-	return api.Case{Ware: "bell", Limit: 2, By: 20, Parts: []api.Part{
-		{Sherds: []int{101}, Span: api.Span{Low: 10, High: 20, LowBy: 1, HighBy: 2}, Foot: true, FootBy: 11},
-		{Sherds: []int{102}, Span: api.Span{Low: 15, High: 30, LowBy: 3, HighBy: 4}},
-		{Sherds: []int{103}, Span: api.Span{Low: 25, High: 40, LowBy: 5, HighBy: 6}, Foot: true, FootBy: 12},
-		{Sherds: []int{104}, Span: api.Span{Low: 12, High: 14, LowBy: 7, HighBy: 8}},
-	}}
-}
-
-// unlimited is a case without its limit; of limited, it is the case U of the chapter's examples.
-func unlimited(c api.Case) api.Case {
-	c.Limit, c.By = 0, 0
-	return c
-}
-
 // crowded is the case M of the chapter's examples.
 func crowded() api.Case {
-	c := unlimited(limited())
+	c := oracle.Unlimited(oracle.Limited())
 	c.Parts = append(c.Parts, api.Part{Sherds: []int{105}, Span: api.Span{Low: 12, High: 13}, Foot: true, FootBy: 13})
 	return c
 }
@@ -51,78 +36,11 @@ func shades(c api.Case, parts []int) []int {
 	return l
 }
 
-func clash(c api.Case, a, b int) bool {
-	p, q := c.Parts[a], c.Parts[b]
-	return a != b && (p.Foot && q.Foot || p.Span.Low > q.Span.High || q.Span.Low > p.Span.High)
-}
-
-// canBeOne says whether no two of some parts clash.
-func canBeOne(c api.Case, parts []int) bool {
-	for _, a := range parts {
-		for _, b := range parts {
-			if clash(c, a, b) {
-				return false
-			}
-		}
-	}
-	return true
-}
-
-// numberOf is the number of vessels of a reassembly.
-func numberOf(v []int) int {
-	n := 0
-	for _, x := range v {
-		n = max(n, x+1)
-	}
-	return n
-}
-
-// membersOf are the parts of a vessel of a reassembly.
-func membersOf(v []int, vessel int) []int {
-	var l []int
-	for p, n := range v {
-		if n == vessel {
-			l = append(l, p)
-		}
-	}
-	return l
-}
-
-// isReassembly is what the chapter calls a reassembly.
-func isReassembly(c api.Case, v []int) bool {
-	if len(v) != len(c.Parts) || c.Limit != 0 && numberOf(v) > c.Limit {
-		return false
-	}
-	for p, n := range v {
-		if n < 0 || n > numberOf(v[:p]) || !canBeOne(c, membersOf(v, n)) {
-			return false
-		}
-	}
-	return true
-}
-
-// reassemblies are all of a case.
-func reassemblies(c api.Case) [][]int {
-	l := [][]int{nil}
-	for range c.Parts {
-		var longer [][]int
-		for _, v := range l {
-			for n := range numberOf(v) + 1 {
-				if w := append(slices.Clone(v), n); canBeOne(c, membersOf(w, n)) {
-					longer = append(longer, w)
-				}
-			}
-		}
-		l = longer
-	}
-	return slices.DeleteFunc(l, func(v []int) bool { return !isReassembly(c, v) })
-}
-
 // leastOf is the least number of vessels.
 func leastOf(c api.Case) int {
 	least := len(c.Parts)
-	for _, v := range reassemblies(unlimited(c)) {
-		least = min(least, numberOf(v))
+	for _, v := range oracle.Reassemblies(oracle.Unlimited(c)) {
+		least = min(least, oracle.NumberOf(v))
 	}
 	return least
 }
@@ -147,7 +65,7 @@ func isWitness(c api.Case, l []int) bool {
 	}
 	for i, a := range l {
 		for _, b := range l[:i] {
-			if !clash(c, a, b) {
+			if !oracle.Clash(c, a, b) {
 				return false
 			}
 		}
@@ -249,7 +167,7 @@ func without(c api.Case, a int) api.Case {
 
 // isBar is what the chapter calls a bar.
 func isBar(c api.Case, a, b int, l []int) bool {
-	if clash(c, a, b) {
+	if oracle.Clash(c, a, b) {
 		return len(l) == 0
 	}
 	return c.Limit > 0 && len(l) == c.Limit+1 && isWitness(glued(c, a, b), l)
@@ -260,66 +178,15 @@ type dice struct{ *rand.Rand }
 
 func newDice(seed uint64) dice { return dice{rand.New(rand.NewPCG(seed, 6))} }
 
-func (d dice) oneOf(l ...int) int { return l[d.IntN(len(l))] }
-
-// some are numbers from 1 to a greatest one, each one taken once in so many times.
-func (d dice) some(most, times int) []int {
-	var l []int
-	for n := 1; n <= most; n++ {
-		if d.IntN(times) == 0 {
-			l = append(l, n)
-		}
-	}
-	return l
-}
-
-// by is the record of what is so, or of none.
-func (d dice) by(isSo bool) int {
-	if !isSo || d.IntN(5) == 0 {
-		return 0
-	}
-	return 1 + d.IntN(50)
-}
-
-// anyParts have colours near each other, perhaps at an end of all colours.
-func (d dice) anyParts(n int) []api.Part {
-	wide, times := d.oneOf(4, n+2, 2*n+2, 3*n+2), d.oneOf(1, 2, 4, 4, 8, 8, 1000)
-	from, longest := d.oneOf(0, 500, api.MaxColour-wide), d.oneOf(1, 4, 1+wide/2, 1+wide/2, wide, wide)
-	deck := d.Perm(4 * n)
-	var l []api.Part
-	for i := range n {
-		p := api.Part{Rests: d.some(9, 3), Foot: d.IntN(times) == 0}
-		for _, id := range deck[4*i : 4*i+1+d.IntN(4)] {
-			p.Sherds = append(p.Sherds, id+1)
-		}
-		slices.Sort(p.Sherds)
-		low := from + d.IntN(wide+1)
-		high := min(low+d.IntN(longest+1), from+wide)
-		p.Span = api.Span{Low: low, High: high, LowBy: d.by(low > 0), HighBy: d.by(high < api.MaxColour)}
-		p.FootBy = d.by(p.Foot)
-		l = append(l, p)
-	}
-	return l
-}
-
-func (d dice) anyCase(n int) api.Case {
-	c := api.Case{Ware: []string{"bell", "c", "jar-2"}[d.IntN(3)], Parts: d.anyParts(n)}
-	if d.IntN(4) > 0 {
-		c.Limit = 1 + d.IntN(min(n/2+1+d.IntN(n+1), api.MaxLimit))
-		c.By = d.by(true)
-	}
-	return c
-}
-
 // eachCase calls f with the cases of the examples, and with many by dice, of some parts at most.
 func eachCase(t *testing.T, times, most int, f func(c api.Case)) {
 	t.Helper()
 	tight := crowded()
 	tight.Limit = 2
-	l := []api.Case{limited(), unlimited(limited()), crowded(), tight, {Ware: "bell"}, {Ware: "bell", Limit: 1}}
+	l := []api.Case{oracle.Limited(), oracle.Unlimited(oracle.Limited()), crowded(), tight, {Ware: "bell"}, {Ware: "bell", Limit: 1}}
 	d := newDice(uint64(most))
 	for i := range times {
-		l = append(l, d.anyCase(i%(most+1)))
+		l = append(l, oracle.AnyCase(d, i%(most+1)))
 	}
 	for _, c := range l {
 		if e := whole.CheckCase(c); e != api.OK {
@@ -341,21 +208,6 @@ func eachTwo(t *testing.T, times, most int, f func(c api.Case, a, b int)) {
 			}
 		}
 	})
-}
-
-// lists are all lists of numbers of a length, each number from low to high.
-func lists(length, low, high int) [][]int {
-	l := [][]int{nil}
-	for range length {
-		var longer [][]int
-		for _, x := range l {
-			for n := low; n <= high; n++ {
-				longer = append(longer, append(slices.Clone(x), n))
-			}
-		}
-		l = longer
-	}
-	return l
 }
 
 // want holds results against what they should be; empty lists are alike.

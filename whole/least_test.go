@@ -6,11 +6,12 @@ import (
 	"testing"
 
 	"conjoin/api"
+	"conjoin/oracle"
 	"conjoin/whole"
 )
 
 func TestExamplesOfLeast(t *testing.T) {
-	c, m := limited(), crowded()
+	c, m := oracle.Limited(), crowded()
 	for r, n := range map[api.Range]int{{Low: 10, High: 20}: 2, {Low: 12, High: 13}: 1, {Low: 12, High: 12}: 0, {Low: 10, High: 40}: 3, {Low: 40, High: 10}: 0} {
 		want(t, r, all(whole.Demand(m, r)), all(n, api.OK))
 	}
@@ -72,8 +73,8 @@ func wantLeast(t *testing.T, c api.Case) int {
 	}
 	want(t, c, all(whole.CheckShow(c, s, n)), all(true, api.OK))
 	want(t, c, all(whole.CheckShow(c, s, n+1)), all(false, api.OK))
-	v, ok, e := whole.Assign(unlimited(c), n)
-	if !ok || e != api.OK || numberOf(v) != n || !isReassembly(unlimited(c), v) {
+	v, ok, e := whole.Assign(oracle.Unlimited(c), n)
+	if !ok || e != api.OK || oracle.NumberOf(v) != n || !oracle.IsReassembly(oracle.Unlimited(c), v) {
 		t.Errorf("%+v: %d vessels, with the reassembly %v, %v, error %d", c, n, v, ok, e)
 	}
 	return n
@@ -116,7 +117,7 @@ func TestLargeLeast(t *testing.T) {
 	d := newDice(40)
 	seen := map[int]int{}
 	for range 1500 {
-		c := d.anyCase(10 + d.IntN(31))
+		c := oracle.AnyCase(d, 10+d.IntN(31))
 		seen[wantLeast(t, c)/10]++
 	}
 	if seen[0] < 100 || seen[1] < 100 || seen[2] < 50 || seen[3] < 20 {
@@ -149,7 +150,7 @@ func TestCheckWitness(t *testing.T) {
 	yes := 0
 	eachCase(t, 60, 5, func(c api.Case) {
 		for length := range 5 {
-			for _, l := range lists(length, -1, len(c.Parts)) {
+			for _, l := range oracle.Lists(length, -1, len(c.Parts)) {
 				is := isWitness(c, l)
 				want(t, all(c, l), all(whole.CheckWitness(c, l)), all(is, api.OK))
 				if is && length > 1 {
