@@ -10,13 +10,14 @@ import (
 	"conjoin/join"
 	"conjoin/profile"
 	"conjoin/sherd"
+	"conjoin/stratum"
 	"conjoin/sure"
 	"conjoin/whole"
 )
 
 // faces are the packages that are built.
 func faces() []face {
-	return []face{gaugeFace(), sherdFace(), edgeFace(), profileFace(), joinFace(), wholeFace(), sureFace()}
+	return []face{gaugeFace(), sherdFace(), edgeFace(), profileFace(), joinFace(), wholeFace(), sureFace(), stratumFace()}
 }
 
 func gaugeFace() face {
@@ -505,4 +506,110 @@ func someOfSure(of reflect.Type) []any {
 		return append(list, someOfWhole(of)...)
 	}
 	return someOfWhole(of)
+}
+
+func stratumFace() face {
+	return face{
+		name: "stratum",
+		calls: map[string]any{
+			"CheckTrace": stratum.CheckTrace, "Check": stratum.Check, "Append": stratum.Append, "Counting": stratum.Counting, "CheckBonds": stratum.CheckBonds,
+			"Places": stratum.Places, "Movable": stratum.Movable, "Links": stratum.Links, "Dates": stratum.Dates, "CheckDates": stratum.CheckDates,
+			"Conflict": stratum.Conflict, "CheckConflict": stratum.CheckConflict, "Between": stratum.Between, "Path": stratum.Path,
+			"Cheapest": stratum.Cheapest, "Sets": stratum.Sets, "Proof": stratum.Proof, "CheckProof": stratum.CheckProof, "Earlier": stratum.Earlier,
+			"Ids": stratum.Ids, "Reached": stratum.Reached, "Write": stratum.Write, "Read": stratum.Read,
+		},
+		some:  someOfStratum,
+		first: firstOfStratum,
+		kept:  []string{"Check"},
+	}
+}
+
+// firstOfStratum is the error of a log, and then, but for Reached, that of bonds.
+func firstOfStratum(args []reflect.Value) api.Errno {
+	l, ok := args[0].Interface().([]api.Trace)
+	if !ok {
+		return api.OK
+	}
+	_, e := stratum.Check(l)
+	for _, x := range args {
+		switch y := x.Interface().(type) {
+		case api.Trace:
+			return e
+		case []api.Bond:
+			if e == api.OK {
+				return stratum.CheckBonds(y)
+			}
+		}
+	}
+	return e
+}
+
+func traces(lines ...string) []api.Trace {
+	list := roomy[api.Trace]()
+	for _, line := range lines {
+		x, _ := stratum.Read(line)
+		list = append(list, x)
+	}
+	return roomy(list...)
+}
+
+// worstTrace has fields that no kind allows.
+func worstTrace(kind uint8) api.Trace {
+	return api.Trace{
+		Id: math.MinInt, Known: math.MaxInt, Kind: kind, Pit: math.MinInt, Layer: math.MaxInt, Lower: math.MinInt,
+		Low: math.MinInt, High: math.MaxInt, Cost: math.MinInt, Of: math.MaxInt,
+	}
+}
+
+func someOfStratum(of reflect.Type) []any {
+	at := func(pit, layer int) api.Place { return api.Place{Pit: pit, Layer: layer} }
+	far := at(math.MinInt, math.MaxInt)
+	lines := []string{"1 0 above 1 1 2", "2 0 above 1 2 3", "3 0 dated 1 3 100 120", "4 1 dated 2 1 90 95", "5 2 moved 1 1 5", "6 2 moved 2 1 3"}
+	joined := api.Bond{A: at(1, 1), B: at(2, 1), By: 40}
+	link := func(from, to api.Place, most, by int) api.Link {
+		return api.Link{From: from, To: to, Most: most, By: by}
+	}
+	circle := func() []api.Link {
+		return roomy(link(at(1, 1), at(1, 2), -1, 1), link(at(1, 2), at(1, 3), -1, 2), link(at(1, 3), at(0, 0), -100, 3), link(at(0, 0), at(2, 1), 95, 4), link(at(2, 1), at(1, 1), 0, 40))
+	}
+	worst := link(far, far, math.MinInt, math.MaxInt)
+	switch reflect.Zero(of).Interface().(type) {
+	case int:
+		return []any{1, 2, 3, math.MaxInt, math.MinInt}
+	case string:
+		return []any{"", "1 0 above 1 1 2", "1 0 dated 1 1 -5 5", "x", " ", "1 0 moved 1 1 \xff", "1 0 void 99999999999999999999", "1 0 nothing 1"}
+	case api.Place:
+		return []any{at(0, 0), at(1, 1), at(2, 1), at(1, 9), far}
+	case []api.Place:
+		return []any{[]api.Place(nil), roomy(at(1, 1)), roomy(at(1, 1), at(2, 1)), roomy(at(2, 1), at(1, 1)), roomy(far, at(1, 1))}
+	case []api.Bond:
+		return []any{[]api.Bond(nil), roomy(joined), roomy(joined, api.Bond{A: far, B: far, By: math.MinInt}), make([]api.Bond, 61)}
+	case []api.Dating:
+		d := roomy(api.Dating{Place: at(1, 1), Year: 102}, api.Dating{Place: at(1, 2), Year: 101}, api.Dating{Place: at(1, 3), Year: 100}, api.Dating{Place: at(2, 1), Year: 90})
+		return []any{[]api.Dating(nil), d, roomy(append(d[:3:3], api.Dating{Place: at(2, 1), Year: math.MaxInt})...), roomy(api.Dating{Place: far, Year: math.MinInt})}
+	case []api.Link:
+		return []any{[]api.Link(nil), circle(), circle()[1:], roomy(worst), roomy(worst, worst), roomy(append(circle(), worst)...)}
+	case []api.Cut:
+		cut := api.Cut{Circle: circle()}
+		return []any{
+			[]api.Cut(nil), roomy(cut, api.Cut{}, api.Cut{}), roomy(cut), roomy(api.Cut{}), roomy(api.Cut{}, cut), roomy(api.Cut{Circle: roomy(worst, worst)}),
+		}
+	case api.Trace:
+		list := []any{}
+		for _, x := range traces("7 2 void 6", "7 2 void 9", "7 3 above 1 3 1", "7 2 dated 2 1 101 105", "7 2 moved 1 2 4", "6 2 void 5", "7 1 dated 1 1 5 6", "x") {
+			list = append(list, x)
+		}
+		for kind := range uint8(6) {
+			list = append(list, worstTrace(kind))
+		}
+		return list
+	}
+	wide := roomy[api.Trace]()
+	for i := range 51 {
+		wide = append(wide, api.Trace{Id: i + 100, Kind: api.TraceDated, Pit: 3 + i/50, Layer: 1 + i%50})
+	}
+	return []any{
+		[]api.Trace(nil), traces(lines...), traces(append(lines, "7 2 void 6", "8 2 above 1 3 1")...), traces("1 0 above 1 1 2", "1 0 above 1 1 2"), wide,
+		roomy(worstTrace(1)), append(traces(lines...), worstTrace(4)), make([]api.Trace, 141),
+	}
 }

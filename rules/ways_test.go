@@ -75,6 +75,7 @@ func TestWays(t *testing.T) {
 		"edge":    "range-function label closure method-value array embedding three-index map struct-compared",
 		"profile": "array array-compared range-function closure label method-expression map panic recover defer method-value generic-function",
 		"join":    "map range-function array embedding promoted label struct-compared panic recover defer generic-function closure method-value",
+		"stratum": "map struct-compared method-expression array range-function closure panic recover defer label embedding promoted generic-function",
 		"sure":    "range-function array array-compared closure panic recover defer map method-expression label generic-function embedding promoted",
 		"whole":   "generic-function closure map struct-compared method-value range-function label embedding promoted array three-index",
 	} {
