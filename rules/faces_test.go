@@ -8,6 +8,7 @@ import (
 	"conjoin/edge"
 	"conjoin/gauge"
 	"conjoin/join"
+	"conjoin/probe"
 	"conjoin/profile"
 	"conjoin/sherd"
 	"conjoin/stratum"
@@ -17,7 +18,7 @@ import (
 
 // faces are the packages that are built.
 func faces() []face {
-	return []face{gaugeFace(), sherdFace(), edgeFace(), profileFace(), joinFace(), wholeFace(), sureFace(), stratumFace()}
+	return []face{gaugeFace(), sherdFace(), edgeFace(), profileFace(), joinFace(), wholeFace(), sureFace(), stratumFace(), probeFace()}
 }
 
 func gaugeFace() face {
@@ -611,5 +612,75 @@ func someOfStratum(of reflect.Type) []any {
 	return []any{
 		[]api.Trace(nil), traces(lines...), traces(append(lines, "7 2 void 6", "8 2 above 1 3 1")...), traces("1 0 above 1 1 2", "1 0 above 1 1 2"), wide,
 		roomy(worstTrace(1)), append(traces(lines...), worstTrace(4)), make([]api.Trace, 141),
+	}
+}
+
+func probeFace() face {
+	return face{
+		name: "probe",
+		calls: map[string]any{
+			"CheckProbes": probe.CheckProbes, "Steps": probe.Steps, "Outcomes": probe.Outcomes, "Cost": probe.Cost, "After": probe.After, "Can": probe.Can,
+			"Settled": probe.Settled, "Decides": probe.Decides, "Verdicts": probe.Verdicts, "CheckVerdicts": probe.CheckVerdicts, "Doubt": probe.Doubt,
+			"CheckDoubt": probe.CheckDoubt, "Worth": probe.Worth, "Cheapest": probe.Cheapest, "Proof": probe.Proof, "CheckProof": probe.CheckProof,
+			"Best": probe.Best, "Write": probe.Write, "Read": probe.Read,
+		},
+		some:  someOfProbe,
+		first: firstOfProbe,
+	}
+}
+
+// firstOfProbe is the error of a case, or that of its probes.
+func firstOfProbe(args []reflect.Value) api.Errno {
+	if c, ok := args[0].Interface().(api.Case); ok {
+		return probe.CheckProbes(c, args[1].Interface().([]api.Probe))
+	}
+	return api.OK
+}
+
+func someOfProbe(of reflect.Type) []any {
+	measure := func(id, part, width, cost int) api.Probe {
+		return api.Probe{Id: id, Part: part, Width: width, Cost: cost}
+	}
+	three := roomy(measure(31, 1, 12, 1), measure(32, 1, 8, 5), measure(33, 2, 8, 2))
+	worst := measure(math.MinInt, math.MaxInt, math.MinInt, math.MaxInt)
+	doubt := func(probes, findings []int) api.Open {
+		return api.Open{Probes: roomy(probes...), Findings: roomy(findings...), Together: roomy(0, 0, 1), Apart: roomy(0, 1, 1)}
+	}
+	far := api.Open{Probes: roomy(math.MinInt), Findings: roomy(math.MaxInt), Together: roomy(-1, math.MaxInt, 0), Apart: roomy(math.MinInt)}
+	refutation := func(s string) []api.Branch {
+		r, _ := sure.ReadRefute(s)
+		return roomy(r...)
+	}
+	switch reflect.Zero(of).Interface().(type) {
+	case int:
+		return []any{0, 1, math.MaxInt, math.MinInt}
+	case string:
+		return []any{"", "31 probe 1 12 1", "31 probe 1 12 1 ", "31 probe 8 12 1", "x", " ", "31 probe 1 \xff 1", "31 probe 1 12 99999999999999999999"}
+	case api.Probe:
+		return []any{api.Probe{}, three[0], worst, measure(1000000, 7, 1001, 1000), measure(1, 8, 1, 1)}
+	case []int:
+		return []any{[]int(nil), roomy(0), roomy(1), roomy(0, 2), roomy(0, 0), roomy(math.MinInt, math.MaxInt)}
+	case []api.Probe:
+		return []any{[]api.Probe(nil), three, roomy(append(three[:3:3], worst)...), roomy(measure(1, 1, 1, 1)), make([]api.Probe, 6)}
+	case api.Open:
+		return []any{api.Open{}, doubt(nil, nil), doubt([]int{0, 2}, []int{0, 0}), doubt([]int{1}, []int{0}), far}
+	case []api.Open:
+		return []any{[]api.Open(nil), roomy(doubt([]int{0, 2}, []int{0, 0})), roomy(doubt(nil, nil), far), make([]api.Open, 40)}
+	case []api.Verdict:
+		together := api.Verdict{Findings: roomy(0), Answer: api.SureTogether, Proof: refutation("0+1+2")}
+		apart := api.Verdict{Findings: roomy(1), Answer: api.SureApart, Proof: refutation("0=1")}
+		broken := api.Branch{Kind: api.LeafMany, A: math.MinInt, B: math.MaxInt, Many: roomy(math.MinInt, math.MaxInt)}
+		return []any{
+			[]api.Verdict(nil), roomy(together, apart), roomy(together, api.Verdict{Findings: roomy(1), Answer: 255, Proof: roomy(broken)}), roomy(apart, together),
+			roomy(api.Verdict{Findings: roomy(math.MaxInt), Proof: refutation("0/1")}), make([]api.Verdict, 40),
+		}
+	}
+	piece := func(sherd, low, high, lowBy, highBy int) api.Part {
+		return api.Part{Sherds: roomy(sherd), Span: api.Span{Low: low, High: high, LowBy: lowBy, HighBy: highBy}, Rests: roomy(sherd)}
+	}
+	bell := roomy(piece(101, 10, 20, 1, 2), piece(102, 15, 30, 3, 4), piece(103, 25, 40, 5, 6))
+	return []any{
+		api.Case{Ware: "bell", Limit: 2, By: 20, Parts: bell}, api.Case{Ware: "bell", Parts: bell}, api.Case{Ware: "bell", Limit: 1, By: 20, Parts: bell}, api.Case{Ware: "bell"},
+		api.Case{Ware: "bell", Parts: roomy(append(bell[:3:3], worstPart())...)}, api.Case{Parts: make([]api.Part, 9)},
 	}
 }

@@ -73,6 +73,7 @@ func TestWays(t *testing.T) {
 		"gauge":   "array range-function label map method-value generic-function closure panic recover defer array-compared variadic",
 		"sherd":   "array map method-expression panic recover defer range-function generic-function closure struct-compared",
 		"edge":    "range-function label closure method-value array embedding three-index map struct-compared",
+		"probe":   "range-function closure label panic recover defer map generic-function embedding promoted method-value",
 		"profile": "array array-compared range-function closure label method-expression map panic recover defer method-value generic-function",
 		"join":    "map range-function array embedding promoted label struct-compared panic recover defer generic-function closure method-value",
 		"stratum": "map struct-compared method-expression array range-function closure panic recover defer label embedding promoted generic-function",
