@@ -43,12 +43,20 @@ func pieceOf(l []api.Item, known, id int) (piece, api.Errno) {
 	if _, e := Check(l); e != api.OK {
 		return piece{}, e
 	}
-	for _, p := range pieces(l, known) {
-		if p.sherd.Id == id {
-			return p, api.OK
+	var p piece
+	for x := range counting(l, known) {
+		if x.Kind == api.ItemSherd && x.Id == id {
+			p.sherd = sherdIn(x)
+		}
+		if x.Sherd == id {
+			p.items = append(p.items, x)
 		}
 	}
-	return piece{}, api.ErrSherd
+	// The Id 0 is that of items of no sherd; no sherd has it.
+	if p.sherd.Id == 0 {
+		return piece{}, api.ErrSherd
+	}
+	return p, api.OK
 }
 
 // of returns the items of one kind.
